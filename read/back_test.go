@@ -185,16 +185,12 @@ func beginsInfix(s string) bool {
 // TestBack is P5.1 and P5.2: terms whose texts are written with operators, brackets, blanks and remarks of all sorts are read back.
 func TestBack(t *testing.T) {
 	m := &maker{Rand: rand.New(rand.NewSource(5))}
-	most, n := 0, 0
+	most := 0
 	for i := range 20000 {
 		m.names = nil
 		x, s := m.term(i%7, 1200)
 		want := api.Sentence{Term: x, Names: m.names}
-		tokens, _, e := lex.Tokens(s + " .")
-		if e != api.OK {
-			continue
-		}
-		most, n = max(most, len(tokens)), n+1
+		most = max(most, len(s))
 		l, place, e := read.Read(s + " .")
 		if e != api.OK || place != 0 || len(l) != 1 || !reflect.DeepEqual(l[0], want) {
 			t.Fatalf("Read(%q .) = %s, %d, %d; want %s", s, toldAll(l), place, e, told(want))
@@ -204,7 +200,7 @@ func TestBack(t *testing.T) {
 			t.Fatalf("One(%q) = %s, %d, %d; want %s", s, told(one), place, e, told(want))
 		}
 	}
-	if most < 200 || n < 15000 {
-		t.Errorf("only %d texts, of at most %d tokens", n, most)
+	if most < api.MaxText/4 {
+		t.Errorf("no text has more than %d bytes", most)
 	}
 }
